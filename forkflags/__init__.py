@@ -1,0 +1,1 @@
+"""Forkflags: the newest record told by flags alone."""

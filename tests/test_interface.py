@@ -1,0 +1,58 @@
+"""The introduction of the interface: names, arguments and the files in which they are defined."""
+
+import importlib
+import inspect
+import unittest
+
+FUNCTIONS = {
+    "shares": ["add_shares(*shares)"],
+    "packing": ["state_count(sizes)", "pack(state, sizes)", "unpack(number, sizes)"],
+    "naming": ["is_name(value)", "check_names(names)"],
+    "trees": [
+        "is_tree(value)", "leaf_names(tree)", "forks_of(tree)", "names_beneath(tree, fork, side)", "ways_of(tree)",
+        "way_of(tree, writer)", "height_of(tree)",
+    ],
+}
+CLASSES = {
+    ("shares", "Share"): [
+        "__init__(self, top, bottom=1)", "at_most(self, other)", "half_power(k)", "__add__(self, other)",
+        "__mul__(self, other)", "__eq__(self, other)", "__str__(self)", "__repr__(self)",
+    ],
+}
+
+
+def module_of(name):
+    return importlib.import_module(f"forkflags.{name}")
+
+
+class InterfaceTest(unittest.TestCase):
+
+    def defined_as(self, value, module, written):
+        """Ask whether a function is defined in this module and takes these arguments."""
+        name = written.partition("(")[0]
+        self.assertEqual(value.__module__, module.__name__)
+        self.assertEqual(value.__name__, name)
+        self.assertEqual(f"{name}{inspect.signature(value)}", written)
+        self.assertEqual(value.__code__.co_filename, module.__file__)
+
+    def test_functions(self):
+        for module, listed in FUNCTIONS.items():
+            for written in listed:
+                name = written.partition("(")[0]
+                self.defined_as(getattr(module_of(module), name), module_of(module), written)
+
+    def test_methods_stand_in_the_class_itself(self):
+        for (module, name), listed in CLASSES.items():
+            own = vars(getattr(module_of(module), name))
+            for written in listed:
+                method = own[written.partition("(")[0]]
+                self.defined_as(getattr(method, "__func__", method), module_of(module), written)
+
+    def test_kinds_of_methods(self):
+        for (module, name), listed in CLASSES.items():
+            own = vars(getattr(module_of(module), name))
+            for written in listed:
+                first = written.partition("(")[2]
+                method = own[written.partition("(")[0]]
+                self.assertEqual(isinstance(method, classmethod), first.startswith("cls"), written)
+                self.assertEqual(isinstance(method, staticmethod), not first.startswith(("self", "cls")), written)
