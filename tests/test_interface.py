@@ -12,11 +12,29 @@ FUNCTIONS = {
         "is_tree(value)", "leaf_names(tree)", "forks_of(tree)", "names_beneath(tree, fork, side)", "ways_of(tree)",
         "way_of(tree, writer)", "height_of(tree)",
     ],
+    "shaping": [
+        "mirror(tree, fork)", "normal_tree(tree)", "graft(tree, writer, beside)", "prune(tree, writer)",
+    ],
+    "notation": ["format_tree(tree)", "parse_tree(text)"],
+    "budgets": [
+        "flag_sum(budgets)", "fits(tree, budgets)", "fit_tree(budgets)", "spare_flags(budgets)",
+        "least_budget(budgets, writer)", "least_raise(budgets)", "least_total(count)", "even_tree(names)",
+    ],
+    "listing": ["tree_count(count)", "tree_number(tree)", "tree_at(names, number)", "all_trees(names)"],
 }
 CLASSES = {
     ("shares", "Share"): [
         "__init__(self, top, bottom=1)", "at_most(self, other)", "half_power(k)", "__add__(self, other)",
         "__mul__(self, other)", "__eq__(self, other)", "__str__(self)", "__repr__(self)",
+    ],
+    ("plans", "Plan"): [
+        "start(self)", "check_state(self, state)", "cells_of(self, writer)", "turned(self, state, turns)",
+        "updated(self, state, writer, done=None)", "__contains__(self, x)",
+    ],
+    ("forkplan", "ForkPlan"): [
+        "__init__(self, tree)", "told(self, state)", "turns(self, state, writer)", "board(self, state, fork)",
+        "told_below(self, state, fork)", "wrong_forks(self, state, writer)", "told_count(self, writer)",
+        "fork_of(self, index)", "flags_at(self, fork)", "__str__(self)", "fitted(cls, budgets)",
     ],
 }
 
@@ -56,3 +74,12 @@ class InterfaceTest(unittest.TestCase):
                 method = own[written.partition("(")[0]]
                 self.assertEqual(isinstance(method, classmethod), first.startswith("cls"), written)
                 self.assertEqual(isinstance(method, staticmethod), not first.startswith(("self", "cls")), written)
+
+    def test_generator(self):
+        self.assertTrue(inspect.isgeneratorfunction(module_of("listing").all_trees))
+
+    def test_plans(self):
+        plan = module_of("plans").Plan
+        self.assertTrue(issubclass(module_of("forkplan").ForkPlan, plan))
+        # Some plans will have no turns, so the base class does not promise any.
+        self.assertFalse(hasattr(plan, "told") or hasattr(plan, "turns"))
