@@ -1,7 +1,7 @@
 """Flag budgets: how many flags each writer has, and the trees that fit them."""
 
-from forkflags.errors import InvalidBudget, InvalidName, SumTooGreat, TooMany, UnknownWriter
-from forkflags.naming import MOST_WRITERS, check_few_names, is_name
+from forkflags.errors import InvalidBudget, SumTooGreat, TooMany, UnknownWriter
+from forkflags.naming import MOST_WRITERS, check_few_names, check_keys
 from forkflags.packing import is_index
 from forkflags.shares import Share, add_shares
 from forkflags.trees import ways_of
@@ -13,9 +13,7 @@ def check_budgets(budgets):
     """Raise an error if these are not the budgets of 1 to 12 writers."""
     if len(budgets) > MOST_WRITERS:
         raise TooMany(MOST_WRITERS)
-    wrong = [name for name in budgets if not is_name(name)]
-    if wrong:
-        raise InvalidName(min(wrong))
+    check_keys(budgets)
     for name in sorted(budgets):
         if not is_index(budgets[name], MOST_FLAGS + 1):
             raise InvalidBudget(name)

@@ -24,6 +24,13 @@ def check_names(names):
         seen.add(name)
 
 
+def check_keys(table):
+    """Raise an error for the least key of a dict that is not a name."""
+    wrong = [key for key in table if not is_name(key)]
+    if wrong:
+        raise InvalidName(min(wrong))
+
+
 def check_few_names(names):
     """Raise an error if there are more names than a tree may have, then those of check_names."""
     if len(names) > MOST_WRITERS:

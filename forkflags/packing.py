@@ -2,11 +2,18 @@
 
 from forkflags.errors import InvalidState
 
+MOST_MARKS = 60
+
 
 def is_index(value, count):
     """Tell whether the value is an integer from 0 to count - 1."""
     # For Python True and False are integers, here they are not.
     return isinstance(value, int) and not isinstance(value, bool) and 0 <= value < count
+
+
+def is_size(value):
+    """Tell whether the value is a number of marks that a dial or a cell of a table may have."""
+    return is_index(value, MOST_MARKS + 1) and value > 0
 
 
 def is_state(value, sizes):

@@ -21,6 +21,16 @@ FUNCTIONS = {
         "least_budget(budgets, writer)", "least_raise(budgets)", "least_total(count)", "even_tree(names)",
     ],
     "listing": ["tree_count(count)", "tree_number(tree)", "tree_at(names, number)", "all_trees(names)"],
+    "partial": ["possible_told(plan, marks)", "sure_told(plan, marks)", "needed_cells(plan, state)"],
+    "alike": ["parting_state(first, second)"],
+    "towns": [
+        "is_town(value)", "halls_of(town)", "houses_of(town)", "house_of(town, writer)", "hall_at(town, hall)",
+        "ways_to(town, house)",
+    ],
+    "townsums": [
+        "house_sum(town, sizes, house)", "town_fault(town, sizes)", "least_dial(town, sizes, writer)",
+        "town_of_tree(tree)",
+    ],
 }
 CLASSES = {
     ("shares", "Share"): [
@@ -35,6 +45,14 @@ CLASSES = {
         "__init__(self, tree)", "told(self, state)", "turns(self, state, writer)", "board(self, state, fork)",
         "told_below(self, state, fork)", "wrong_forks(self, state, writer)", "told_count(self, writer)",
         "fork_of(self, index)", "flags_at(self, fork)", "__str__(self)", "fitted(cls, budgets)",
+    ],
+    ("dials", "DialCode"): [
+        "__init__(self, sizes, rights, copies=1)", "pair_shown(self, marks)",
+        "mark_for(self, marks, writer, value, copy)",
+    ],
+    ("townplan", "TownPlan"): [
+        "__init__(self, town, sizes)", "told(self, state)", "turns(self, state, writer)", "board(self, state, hall)",
+        "sight(self, state, writer)",
     ],
 }
 
@@ -80,6 +98,7 @@ class InterfaceTest(unittest.TestCase):
 
     def test_plans(self):
         plan = module_of("plans").Plan
-        self.assertTrue(issubclass(module_of("forkplan").ForkPlan, plan))
+        for module, name in [("forkplan", "ForkPlan"), ("townplan", "TownPlan")]:
+            self.assertTrue(issubclass(getattr(module_of(module), name), plan))
         # Some plans will have no turns, so the base class does not promise any.
         self.assertFalse(hasattr(plan, "told") or hasattr(plan, "turns"))

@@ -22,6 +22,8 @@ BUILTINS = set(
     "IndexError LookupError ZeroDivisionError ArithmeticError OverflowError RuntimeError NotImplementedError "
     "AttributeError StopIteration NotImplemented".split()
 )
+# Running examples leaves the last value under the name _, which is no builtin.
+NAMES_OF_BUILTINS = set(dir(builtins)) - {"_"}
 METHODS_OF_VALUES = set(
     "append clear copy count endswith extend find get index insert isalnum isalpha isdigit islower isspace isupper "
     "items join keys ljust lower lstrip partition pop remove replace reverse rfind rjust rpartition rsplit rstrip "
@@ -135,10 +137,10 @@ class LanguageTest(unittest.TestCase):
     def test_names(self, path):
         for name in bound_names(path):
             self.assertTrue(name.isascii(), "L12")
-            self.assertNotIn(name, set(dir(builtins)) | BARRED_NAMES | {"type"}, "L15, L17")
+            self.assertFalse(name in NAMES_OF_BUILTINS or name in BARRED_NAMES, f"L15, L17: {name}")
             self.assertEqual(name.startswith("__"), name.endswith("__") and len(name) > 4, "L8")
         for node in nodes_of(path, ast.Name):
-            if node.id in dir(builtins):
+            if node.id in NAMES_OF_BUILTINS:
                 self.assertIn(node.id, BUILTINS, "L8")
 
     @for_each_file
