@@ -8,8 +8,6 @@ def parting_state(first, second):
     """Return a state in which the plans tell different writers, or None if there is none."""
     if first.cells != second.cells:
         raise UnlikePlans("the plans have different cells")
-    if first.tree == second.tree:
-        return None
     ways = ways_of(first.tree)
     others = ways_of(second.tree)
     for name in first.names:

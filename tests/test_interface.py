@@ -31,6 +31,13 @@ FUNCTIONS = {
         "house_sum(town, sizes, house)", "town_fault(town, sizes)", "least_dial(town, sizes, writer)",
         "town_of_tree(tree)",
     ],
+    "history": ["run(plan, state, events)", "last_whole(plan, state, events)", "moments_of(plan, state, events)"],
+    "routes": ["route(plan, start, goal)", "quiet_route(plan, start, goal)", "quiet_count(plan, state)"],
+    "costs": [
+        "side_changes(tree, row)", "row_turns(tree, row)", "most_turns(tree, count)", "dearest_row(tree, count)",
+        "dearest_rate(tree)",
+    ],
+    "cheapest": ["cheapest_tree(row)"],
 }
 CLASSES = {
     ("shares", "Share"): [
@@ -53,6 +60,13 @@ CLASSES = {
     ("townplan", "TownPlan"): [
         "__init__(self, town, sizes)", "told(self, state)", "turns(self, state, writer)", "board(self, state, hall)",
         "sight(self, state, writer)",
+    ],
+    ("ratchets", "RatchetPlan"): [
+        "__init__(self, town, sizes, rings)", "told(self, state)", "turns(self, state, writer)",
+        "board(self, state, hall)", "sight(self, state, writer)", "forward_steps(self, state, writer)",
+    ],
+    ("history", "History"): [
+        "__init__(self, plan, state=None)", "write(self, writer, done=None)", "each_moment(self)", "__len__(self)",
     ],
 }
 
@@ -93,12 +107,19 @@ class InterfaceTest(unittest.TestCase):
                 self.assertEqual(isinstance(method, classmethod), first.startswith("cls"), written)
                 self.assertEqual(isinstance(method, staticmethod), not first.startswith(("self", "cls")), written)
 
-    def test_generator(self):
+    def test_generators(self):
         self.assertTrue(inspect.isgeneratorfunction(module_of("listing").all_trees))
+        self.assertTrue(inspect.isgeneratorfunction(module_of("history").History.each_moment))
+
+    def test_properties(self):
+        for module, name, properties in [("history", "History", ["reading"])]:
+            own = vars(getattr(module_of(module), name))
+            self.assertEqual([key for key in own if isinstance(own[key], property)], properties)
 
     def test_plans(self):
         plan = module_of("plans").Plan
-        for module, name in [("forkplan", "ForkPlan"), ("townplan", "TownPlan")]:
+        for module, name in [("forkplan", "ForkPlan"), ("townplan", "TownPlan"), ("ratchets", "RatchetPlan")]:
             self.assertTrue(issubclass(getattr(module_of(module), name), plan))
+        self.assertTrue(issubclass(module_of("ratchets").RatchetPlan, module_of("townplan").TownPlan))
         # Some plans will have no turns, so the base class does not promise any.
         self.assertFalse(hasattr(plan, "told") or hasattr(plan, "turns"))
