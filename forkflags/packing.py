@@ -51,3 +51,8 @@ def unpack(number, sizes):
         rest, mark = divmod(rest, size)
         marks.append(mark)
     return tuple(marks[::-1])
+
+
+def states_of(sizes):
+    """List all states of cells of these sizes, ascending."""
+    return [unpack(number, sizes) for number in range(state_count(sizes))]

@@ -38,6 +38,12 @@ FUNCTIONS = {
         "dearest_rate(tree)",
     ],
     "cheapest": ["cheapest_tree(row)"],
+    "overlaps": ["overlapped(plan, state, first, second)", "loses(plan, state, first, second)", "safe_pairs(plan)"],
+    "tables": ["table_of(plan)", "told_counts(table, states)", "line_sum(sizes)"],
+    "safety": ["safe_states(table)", "safe_way(table, states, state, writer)", "removal_rounds(table)"],
+    "ruled": ["safe_rules(table)"],
+    "faults": ["is_fault(plan, start, events)", "first_fault(plan, start)", "reachable(plan, start)"],
+    "garbled": ["garbled_fault(table, rights, start)", "parity_table(sizes, even, odd)"],
 }
 CLASSES = {
     ("shares", "Share"): [
@@ -68,6 +74,10 @@ CLASSES = {
     ("history", "History"): [
         "__init__(self, plan, state=None)", "write(self, writer, done=None)", "each_moment(self)", "__len__(self)",
     ],
+    ("tables", "ReadingTable"): [
+        "__init__(self, sizes, readings)", "told(self, state)", "line_of(self, state, writer)",
+    ],
+    ("ruled", "RuledTable"): ["__init__(self, sizes, readings, rules)", "turns(self, state, writer)"],
 }
 
 
@@ -118,8 +128,12 @@ class InterfaceTest(unittest.TestCase):
 
     def test_plans(self):
         plan = module_of("plans").Plan
-        for module, name in [("forkplan", "ForkPlan"), ("townplan", "TownPlan"), ("ratchets", "RatchetPlan")]:
+        for module, name in [
+            ("forkplan", "ForkPlan"), ("townplan", "TownPlan"), ("ratchets", "RatchetPlan"), ("tables", "ReadingTable"),
+        ]:
             self.assertTrue(issubclass(getattr(module_of(module), name), plan))
         self.assertTrue(issubclass(module_of("ratchets").RatchetPlan, module_of("townplan").TownPlan))
-        # Some plans will have no turns, so the base class does not promise any.
+        self.assertTrue(issubclass(module_of("ruled").RuledTable, module_of("tables").ReadingTable))
+        # A reading table has no turns, so the base class does not promise any.
         self.assertFalse(hasattr(plan, "told") or hasattr(plan, "turns"))
+        self.assertFalse(hasattr(module_of("tables").ReadingTable, "turns"))
