@@ -56,14 +56,15 @@ def graft(tree, writer, beside):
         raise UnknownWriter(beside)
     if len(names) == MOST_WRITERS:
         raise TooMany(MOST_WRITERS)
-    return _grafted(tree, writer, beside)
+    return replaced(tree, beside, (beside, writer))
 
 
-def _grafted(tree, writer, beside):
+def replaced(tree, name, part):
+    """Return the tree with the leaf of this name replaced by another part."""
     if isinstance(tree, str):
-        return (tree, writer) if tree == beside else tree
+        return part if tree == name else tree
     left, right = tree
-    return (_grafted(left, writer, beside), _grafted(right, writer, beside))
+    return (replaced(left, name, part), replaced(right, name, part))
 
 
 def prune(tree, writer):

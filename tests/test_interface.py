@@ -44,6 +44,18 @@ FUNCTIONS = {
     "ruled": ["safe_rules(table)"],
     "faults": ["is_fault(plan, start, events)", "first_fault(plan, start)", "reachable(plan, start)"],
     "garbled": ["garbled_fault(table, rights, start)", "parity_table(sizes, even, odd)"],
+    "scans": [
+        "scan(plan, moments, *, first=0, gaps=())", "scan_answers(plan, moments, first=0)",
+        "board_answers(plan, moments, first=0)", "excuse(plan, moments, first, last, answer)",
+    ],
+    "diaries": [
+        "diaries_of(plan, state, row)", "told_story(plan, last, diaries)", "heard_before(plan, writer, entry)",
+    ],
+    "moves": [
+        "admitted(plan, state, writer, beside)", "dismissed(plan, state, writer)",
+        "joined_plans(first, first_state, second, second_state)", "renamed(plan, state, old, new)",
+    ],
+    "commands": ["parse_line(line)", "format_line(deed)"],
 }
 CLASSES = {
     ("shares", "Share"): [
@@ -78,6 +90,16 @@ CLASSES = {
         "__init__(self, sizes, readings)", "told(self, state)", "line_of(self, state, writer)",
     ],
     ("ruled", "RuledTable"): ["__init__(self, sizes, readings, rules)", "turns(self, state, writer)"],
+    ("store", "Store"): [
+        "__init__(self, plan, state=None)", "record(self, writer)", "spare(self, writer)", "pointer(self, writer)",
+        "write(self, writer, text, steps=None)", "step_count(self, writer, text)", "image(self)", "twin(self)",
+        "salvage(self, lost)", "from_image(cls, plan, lines)",
+    ],
+    ("desk", "Desk"): [
+        "__init__(self, tree, flag_limit=12)", "write(self, writer, text, steps=None)", "admit(self, writer, beside)",
+        "dismiss(self, writer)", "undo(self)", "redo(self)", "batch(self, deeds)", "change_flag_limit(self, limit)",
+        "obey(self, line)",
+    ],
 }
 
 
@@ -122,9 +144,21 @@ class InterfaceTest(unittest.TestCase):
         self.assertTrue(inspect.isgeneratorfunction(module_of("history").History.each_moment))
 
     def test_properties(self):
-        for module, name, properties in [("history", "History", ["reading"])]:
+        for module, name, properties in [
+            ("history", "History", {"reading": False}), ("store", "Store", {"newest": False}),
+            ("desk", "Desk", {"newest": False, "flag_limit": True}),
+        ]:
             own = vars(getattr(module_of(module), name))
-            self.assertEqual([key for key in own if isinstance(own[key], property)], properties)
+            found = {key: own[key].fset is not None for key in own if isinstance(own[key], property)}
+            self.assertEqual(found, properties, "a property, and whether it can be assigned")
+
+    def test_class_values(self):
+        self.assertEqual(vars(module_of("desk").Desk)["MOST_STEPS"], 400)
+
+    def test_attributes_are_set_when_an_object_is_made(self):
+        plan = module_of("forkplan").ForkPlan("a")
+        self.assertLessEqual({"plan", "state"}, set(vars(module_of("store").Store(plan))))
+        self.assertIn("store", vars(module_of("desk").Desk("a")))
 
     def test_plans(self):
         plan = module_of("plans").Plan
